@@ -1,0 +1,1 @@
+"""Purepowers: when x ** n - a can not be split."""
