@@ -1,10 +1,45 @@
 """Numbers: their texts, their bases and exponents, their roots and multiples."""
 
-from math import gcd
+from math import gcd, isqrt
 
 from purepowers.checks import check_degree, check_number, is_number
 from purepowers.errors import InvalidText, TooGreat
 from purepowers.limits import MOST_SIZE
+
+# The prime exponents that integers above 1 and below 2 ** 127 can have; to each one a modulus, and the rests that
+# powers with this exponent leave by it. Most other integers leave other rests, so that no root has to be sought.
+POWER_RESTS = (
+    (2, 16, (0, 1, 4, 9)),
+    (3, 63, (0, 1, 8, 27, 28, 35, 36, 55, 62)),
+    (5, 11, (0, 1, 10)),
+    (7, 29, (0, 1, 12, 17, 28)),
+    (11, 23, (0, 1, 22)),
+    (13, 53, (0, 1, 23, 30, 52)),
+    (17, 103, (0, 1, 46, 47, 56, 57, 102)),
+    (19, 191, (0, 1, 7, 39, 49, 82, 109, 142, 152, 184, 190)),
+    (23, 47, (0, 1, 46)),
+    (29, 59, (0, 1, 58)),
+    (31, 311, (0, 1, 6, 36, 52, 95, 216, 259, 275, 305, 310)),
+    (37, 149, (0, 1, 44, 105, 148)),
+    (41, 83, (0, 1, 82)),
+    (43, 173, (0, 1, 80, 93, 172)),
+    (47, 283, (0, 1, 44, 45, 238, 239, 282)),
+    (53, 107, (0, 1, 106)),
+    (59, 709, (0, 1, 91, 96, 187, 227, 228, 481, 482, 522, 613, 618, 708)),
+    (61, 367, (0, 1, 83, 84, 283, 284, 366)),
+    (67, 269, (0, 1, 82, 187, 268)),
+    (71, 569, (0, 1, 76, 86, 277, 292, 483, 493, 568)),
+    (73, 293, (0, 1, 138, 155, 292)),
+    (79, 317, (0, 1, 114, 203, 316)),
+    (83, 167, (0, 1, 166)),
+    (89, 179, (0, 1, 178)),
+    (97, 389, (0, 1, 115, 274, 388)),
+    (101, 607, (0, 1, 210, 211, 396, 397, 606)),
+    (103, 619, (0, 1, 252, 253, 366, 367, 618)),
+    (107, 643, (0, 1, 177, 178, 465, 466, 642)),
+    (109, 1091, (0, 1, 79, 93, 290, 305, 786, 801, 998, 1012, 1090)),
+    (113, 227, (0, 1, 226)),
+)
 
 
 def number_text(number):
@@ -49,29 +84,44 @@ def _are_digits(text):
 def base_of(number):
     """The pair of the base and the exponent of the number."""
     check_number(number)
-    top, bottom = abs(number[0]), number[1]
+    return base_of_sizes(abs(number[0]), number[1])
+
+
+def base_of_sizes(top, bottom):
+    """The base and the exponent of top / bottom, both above 0, below 2 ** 127 and without a common divisor."""
     if top == bottom:
         return (1, 1), 0
-    # A power with the exponent k, other than 1, has a top or a bottom of more than k binary digits.
-    for k in range(max(top, bottom).bit_length() - 1, 1, -1):
-        root = _fraction_root(top, bottom, k)
-        if root is not None:
-            return root, k
-    return (top, bottom), 1
+    exponent = 1
+    digits = max(top, bottom).bit_length()
+    for prime, modulus, rests in POWER_RESTS:
+        # A power with this exponent, other than 1, has a top or a bottom of more binary digits than that.
+        if prime >= digits:
+            break
+        while top % modulus in rests and bottom % modulus in rests:
+            root = _fraction_root(top, bottom, prime)
+            if root is None:
+                break
+            top, bottom = root
+            exponent = exponent * prime
+    return (top, bottom), exponent
 
 
 def power_root(number, n):
     """The number whose power with the exponent n is this one, the positive one of two, or None."""
     check_number(number)
     check_degree(n)
-    if number[0] < 0 and n % 2 == 0:
+    top, bottom = number
+    if top < 0 and n % 2 == 0:
         return None
-    (top, bottom), exponent = base_of(number)
-    # The exponent 0 of 1 and -1 is divided by every n, as it has to be.
-    if exponent % n != 0:
+    if abs(top) == bottom:
+        return number
+    # As in base_of_sizes: this keeps n small where roots are sought.
+    if n >= max(abs(top), bottom).bit_length():
         return None
-    sign = -1 if number[0] < 0 else 1
-    return sign * power_of(top, exponent // n), power_of(bottom, exponent // n)
+    root = _fraction_root(abs(top), bottom, n)
+    if root is None or top > 0:
+        return root
+    return -root[0], root[1]
 
 
 def four_root(number):
@@ -109,19 +159,24 @@ def power_of(value, exponent):
 
 def floor_root(value, n):
     """The n-th root of an integer from 0 on, rounded down."""
-    low = 0
-    beyond = 1 << (value.bit_length() // n + 1)
-    while beyond - low > 1:
-        middle = (low + beyond) // 2
-        if power_of(middle, n) <= value:
-            low = middle
-        else:
-            beyond = middle
-    return low
+    if value == 0:
+        return 0
+    # By Newton's steps, from above the root: as long as they fall, they do not fall below it.
+    root = 1 << ((value.bit_length() + n - 1) // n)
+    while True:
+        lower = ((n - 1) * root + value // power_of(root, n - 1)) // n
+        if lower >= root:
+            return root
+        root = lower
 
 
 def exact_root(value, n):
     """The n-th root of an integer from 0 on, or None if it is no integer."""
+    while n % 2 == 0:
+        root = isqrt(value)
+        if root * root != value:
+            return None
+        value, n = root, n // 2
     root = floor_root(value, n)
     return root if power_of(root, n) == value else None
 

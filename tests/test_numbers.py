@@ -213,6 +213,22 @@ class Bases(unittest.TestCase):
             self.assertEqual(base_of((top, bottom)), (base, n))
             self.assertEqual(base_of((-top, bottom)), (base, n))
 
+    def test_powers_of_many_numbers(self):
+        # Enough of them to leave all rests that powers leave by small integers.
+        for n in range(2, 100):
+            for value in range(2, 1200):
+                if value ** n > SIZE:
+                    break
+                exponent = exponent_by_primes((value, 1))
+                base, told = base_of((value ** n, 1))
+                self.assertEqual(told, n * exponent)
+                self.assertEqual(as_power(base, exponent), (value, 1))
+                self.assertEqual(base_of((-1, value ** n)), ((1, base[0]), told))
+                self.assertEqual(power_root((value ** n, 1), n), (value, 1))
+                # Two integers side by side have no common divisor, and are no powers both, but for 8 and 9.
+                if value != 9 and value > 2:
+                    self.assertEqual(base_of((-((value - 1) ** n), value ** n)), ((value - 1, value), n))
+
     def test_beside_powers(self):
         # By Mihailescu's theorem, 8 and 9 are the only powers side by side.
         for base, n in some_powers():
