@@ -14,6 +14,11 @@ def is_between(value, least, most):
     return least <= value <= most
 
 
+def is_sign(value):
+    """Whether the value is 1 or -1."""
+    return is_between(value, -1, 1) and value != 0
+
+
 def is_number(value):
     """Whether the value is a number: a pair (top, bottom) in lowest terms."""
     if not isinstance(value, tuple) or len(value) != 2:
@@ -30,7 +35,7 @@ def check_number(number):
         raise InvalidNumber(number)
 
 
-def check_degree(n):
-    """InvalidDegree if this is no integer from 1 to 10 ** 30."""
-    if not is_between(n, 1, MOST_SIZE):
+def check_degree(n, least=1, most=MOST_SIZE):
+    """InvalidDegree if this is no integer from `least` to `most`."""
+    if not is_between(n, least, most):
         raise InvalidDegree(n)

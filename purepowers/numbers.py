@@ -127,6 +127,11 @@ def power_root(number, n):
 def four_root(number):
     """The positive b such that the number is -4 * b ** 4, or None."""
     check_number(number)
+    return four_root_of_any(number)
+
+
+def four_root_of_any(number):
+    """The same, also for a top and a bottom beyond 10 ** 30."""
     top, bottom = number
     if top > 0:
         return None
@@ -138,12 +143,17 @@ def multiplied(number, times):
     """The number times an integer."""
     check_number(number)
     check_degree(times)
+    top, bottom = any_multiple(number, times)
+    if abs(top) > MOST_SIZE:
+        raise TooGreat(top)
+    return top, bottom
+
+
+def any_multiple(number, times):
+    """The same, also for products beyond 10 ** 30."""
     top, bottom = number
     divisor = gcd(bottom, times)
-    new_top = top * (times // divisor)
-    if abs(new_top) > MOST_SIZE:
-        raise TooGreat(new_top)
-    return new_top, bottom // divisor
+    return top * (times // divisor), bottom // divisor
 
 
 def power_of(value, exponent):

@@ -6,55 +6,8 @@ from math import gcd
 from purepowers import numbers
 from purepowers.errors import InvalidDegree, InvalidNumber, InvalidText, TooGreat
 from purepowers.numbers import base_of, four_root, multiplied, number_text, power_root, read_number
+from some_numbers import GREAT, SIZE, as_power, exponent_by_primes, is_small, small_numbers, some_powers
 from wrong_values import assert_told, no_degrees, no_integers, no_numbers, raised_by
-
-SIZE = 10 ** 30
-GREAT = (
-    (SIZE, 1), (-SIZE, 1), (1, SIZE), (-1, SIZE), (SIZE, SIZE - 1), (-SIZE, SIZE - 1), (SIZE - 1, SIZE),
-    (1 - SIZE, SIZE), (SIZE - 1, 1), (1, SIZE - 1), (2 ** 99, 3 ** 62), (-(3 ** 62), 2 ** 99),
-)
-
-
-def small_numbers(most):
-    """All numbers with top, but for its sign, and bottom up to this."""
-    return [
-        (sign * top, bottom)
-        for top in range(1, most + 1) for bottom in range(1, most + 1) for sign in (1, -1) if gcd(top, bottom) == 1
-    ]
-
-
-def prime_exponents(value):
-    """The exponents of the primes in this integer above 0: another way to the exponent than the program's."""
-    found = []
-    prime = 2
-    while value > 1:
-        many = 0
-        while value % prime == 0:
-            value //= prime
-            many += 1
-        if many:
-            found.append(many)
-        prime += 1
-    return found
-
-
-def exponent_by_primes(number):
-    return gcd(*prime_exponents(abs(number[0])), *prime_exponents(number[1]))
-
-
-def as_power(number, n):
-    """The pair that is the power of this number."""
-    return (number[0] ** n, number[1] ** n)
-
-
-def is_small(number):
-    return max(abs(number[0]), number[1]) <= SIZE
-
-
-def some_powers():
-    """Pairs of a positive number that is no power and an exponent, for all exponents that there can be."""
-    bases = ((2, 1), (1, 2), (3, 1), (2, 3), (3, 2), (6, 1), (1, 6), (10, 1), (10, 7), (12, 1), (1, 18), (72, 5), (97, 89))
-    return [(base, n) for base in bases for n in range(1, 100) if is_small(as_power(base, n))]
 
 
 class Signatures(unittest.TestCase):

@@ -1,5 +1,7 @@
 """Values of wrong kinds, and how the tests ask for an error."""
 
+import inspect
+
 
 class Stranger:
     """An object that refuses to be compared, measured or shown."""
@@ -58,9 +60,20 @@ def no_numbers():
     return kinds + lengths + lists + truths + parts + texts + tops + bottoms + divisors
 
 
-def no_degrees():
-    """Values that are no integers from 1 to 10 ** 30."""
-    return no_integers() + [0, -1, -2, -10 ** 30, 10 ** 30 + 1, 10 ** 31, -10 ** 60, (1, 1), [2], "10"]
+def no_degrees(least=1, most=10 ** 30):
+    """Values that are no integers from the least to the most."""
+    beyond = [least - 1, least - 2, -10 ** 30, most + 1, most + 2, 10 * most, -10 ** 60]
+    return no_integers() + beyond + [(1, 1), [2], "10"]
+
+
+def no_signs():
+    """Values that are neither 1 nor -1."""
+    return no_integers() + [0, 2, -2, 3, 10 ** 30, "-1", (-1,), [1]]
+
+
+def told_as_given(values):
+    """Pairs of each value and of what its error tells as `given`: the value itself."""
+    return [(value, value) for value in values]
 
 
 def raised_by(case, error, call, *values, **named):
@@ -74,3 +87,26 @@ def raised_by(case, error, call, *values, **named):
 def assert_told(case, error, given, call, *values, **named):
     """The call raises just this class of error, with the very value as `given`."""
     case.assertIs(raised_by(case, error, call, *values, **named).given, given)
+
+
+def assert_each_argument(case, function, *rows):
+    """The function looks at its arguments one by one: each row is about one of them, in order.
+
+    A row is a valid value, the class of the error for others, the name of its attribute, and pairs of a
+    wrong value and of what the attribute then is.
+    """
+    parameters = inspect.signature(function).parameters.values()
+    case.assertEqual([one.kind for one in parameters], [inspect.Parameter.POSITIONAL_OR_KEYWORD] * len(rows))
+    case.assertEqual([one.default for one in parameters], [inspect.Parameter.empty] * len(rows))
+    names = [one.name for one in parameters]
+    valid = [row[0] for row in rows]
+    all_wrong = [row[3][0][0] for row in rows]
+    for at, (_, error, attribute, pairs) in enumerate(rows):
+        for wrong, told in pairs:
+            # What stands behind is not looked at any more.
+            for behind in (valid, all_wrong):
+                values = valid[:at] + [wrong] + behind[at + 1:]
+                with case.subTest(function.__name__, name=names[at], kind=wrong.__class__):
+                    case.assertIs(getattr(raised_by(case, error, function, *values), attribute), told)
+                    named = dict(reversed(list(zip(names, values))))
+                    case.assertIs(getattr(raised_by(case, error, function, **named), attribute), told)
