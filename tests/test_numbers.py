@@ -5,7 +5,7 @@ from math import gcd
 
 from purepowers import numbers
 from purepowers.errors import InvalidDegree, InvalidNumber, InvalidText, TooGreat
-from purepowers.numbers import base_of, four_root, multiplied, number_text, power_root, read_number
+from purepowers.numbers import base_of, base_of_sizes, four_root, multiplied, number_text, power_root, read_number
 from some_numbers import GREAT, SIZE, as_power, exponent_by_primes, is_small, small_numbers, some_powers
 from wrong_values import assert_told, no_degrees, no_integers, no_numbers, raised_by
 
@@ -181,6 +181,15 @@ class Bases(unittest.TestCase):
                 # Two integers side by side have no common divisor, and are no powers both, but for 8 and 9.
                 if value != 9 and value > 2:
                     self.assertEqual(base_of((-((value - 1) ** n), value ** n)), ((value - 1, value), n))
+
+    def test_somewhat_beyond_the_greatest_number(self):
+        # Products of numbers are asked for their bases, too.
+        for base in (2, 3, 5, 6, 10):
+            for n in range(2, 127):
+                if base ** n < 2 ** 127:
+                    self.assertEqual(base_of_sizes(base ** n, 1), ((base, 1), n))
+                    self.assertEqual(base_of_sizes(1, base ** n), ((1, base), n))
+                    self.assertEqual(base_of_sizes(base ** n, 7 ** 35)[1], gcd(n, 35))
 
     def test_beside_powers(self):
         # By Mihailescu's theorem, 8 and 9 are the only powers side by side.
