@@ -2,7 +2,7 @@
 
 from math import gcd
 
-from purepowers.errors import InvalidDegree, InvalidNumber
+from purepowers.errors import InvalidDegree, InvalidIndex, InvalidNumber
 from purepowers.limits import MOST_SIZE
 
 
@@ -29,6 +29,12 @@ def is_number(value):
     return top != 0 and gcd(top, bottom) == 1
 
 
+def are_digits(text):
+    """Whether the string is made of decimal digits, one or more."""
+    # By itself, isdecimal takes more than 0 to 9.
+    return text.isascii() and text.isdecimal()
+
+
 def check_number(number):
     """InvalidNumber if this is no number."""
     if not is_number(number):
@@ -39,3 +45,9 @@ def check_degree(n, least=1, most=MOST_SIZE):
     """InvalidDegree if this is no integer from `least` to `most`."""
     if not is_between(n, least, most):
         raise InvalidDegree(n)
+
+
+def check_index(index, many):
+    """InvalidIndex if this is no index of so many things."""
+    if not is_between(index, 0, many - 1):
+        raise InvalidIndex(index)

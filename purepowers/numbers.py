@@ -2,7 +2,7 @@
 
 from math import gcd, isqrt
 
-from purepowers.checks import check_degree, check_number, is_number
+from purepowers.checks import are_digits, check_degree, check_number, is_number
 from purepowers.errors import InvalidText, TooGreat
 from purepowers.limits import MOST_SIZE
 
@@ -68,17 +68,12 @@ def _loosely_read(text):
     digits = top.removeprefix("-")
     if not slash:
         bottom = "1"
-    if not _are_digits(digits) or not _are_digits(bottom):
+    if not are_digits(digits) or not are_digits(bottom):
+        return None
+    # Python itself refuses to read integers of some thousand digits.
+    if max(len(digits), len(bottom)) > len(str(MOST_SIZE)):
         return None
     return int(top), int(bottom)
-
-
-def _are_digits(text):
-    """Whether the text is made of decimal digits, no more of them than the greatest number has."""
-    # Python itself refuses to read integers of some thousand digits, and isdigit takes more than 0 to 9.
-    if not 1 <= len(text) <= len(str(MOST_SIZE)):
-        return False
-    return all([char in "0123456789" for char in text])
 
 
 def base_of(number):
