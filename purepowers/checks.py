@@ -29,6 +29,13 @@ def is_number(value):
     return top != 0 and gcd(top, bottom) == 1
 
 
+def has_form(value, forms):
+    """Whether the value is a tuple of a word and more, the word and the number of all in it as one of the forms has."""
+    if not isinstance(value, tuple) or not value or not isinstance(value[0], str):
+        return False
+    return (value[0], len(value)) in forms
+
+
 def are_digits(text):
     """Whether the string is made of decimal digits, one or more."""
     # By itself, isdecimal takes more than 0 to 9.

@@ -16,7 +16,7 @@ def splits(number, n):
     """Whether the equation splits."""
     check_number(number)
     check_degree(n)
-    if _common_exponent(number, n) > 1:
+    if common_exponent(number, n) > 1:
         return True
     return n % 4 == 0 and four_root_of_any(number) is not None
 
@@ -25,7 +25,7 @@ def why(number, n):
     """The reason for which the equation splits, or None."""
     check_number(number)
     check_degree(n, 1, MOST_FACTORED)
-    common = _common_exponent(number, n)
+    common = common_exponent(number, n)
     if common > 1:
         prime = primes_of(common)[0]
         return "power", prime, power_root(number, prime)
@@ -126,7 +126,7 @@ def odd_part(n):
     return n // (n & -n)
 
 
-def _common_exponent(number, n):
+def common_exponent(number, n):
     """The greatest divisor of n such that the number is a power with this exponent."""
     top, bottom = number
     _, exponent = base_of_sizes(abs(top), bottom)
