@@ -1,7 +1,7 @@
 """Claims for the checker, each with a certificate."""
 
-from purepowers.numbers import base_of, four_root, number_text, power_root
-from purepowers.splitting import common_exponent, is_always_whole, splits
+from purepowers.numbers import base_of, four_root, number_root_by, number_text
+from purepowers.splitting import is_always_whole, splits
 from purepowers.towers import degree_of, told_by
 
 
@@ -10,10 +10,10 @@ def certify_equation(number, n):
     if not splits(number, n):
         return ("whole", number_text(number), n), base_of(number)
     claim = ("splits", number_text(number), n)
-    exponent = common_exponent(number, n)
+    root, exponent = number_root_by(number, n)
     if exponent > 1:
         # It may be no prime: those of an n of thirty figures could not be found.
-        return claim, ("power", exponent, power_root(number, exponent))
+        return claim, ("power", exponent, root)
     return claim, ("four", four_root(number))
 
 

@@ -3,11 +3,13 @@
 from purepowers.checks import check_degree, check_number, is_sign
 from purepowers.errors import InvalidKind
 from purepowers.limits import MOST_SIZE
-from purepowers.numbers import POWER_RESTS, any_multiple, floor_root
+from purepowers.numbers import any_multiple, floor_root
 from purepowers.splitting import odd_ones, primes_of, steps_of
 
 MOST_COUNTED = 10 ** 18
 MOST_COUNTED_DEGREE = 1000
+# The prime exponents that integers above 1 and up to 10 ** 18 can have.
+PRIMES = (2, 3, 5, 7, 11, 13, 17, 19, 23, 29, 31, 37, 41, 43, 47, 53, 59)
 
 
 def first_split(number):
@@ -34,11 +36,11 @@ def next_split(number, n):
     check_number(number)
     check_degree(n)
     steps = steps_of(number)
-    if steps is not None:
-        return min([(n // step + 1) * step for step in steps], default=None)
-    if number[0] < 0 and _is_power_of_two(n + 1):
-        return n + 2
-    return n + 1
+    if steps is None:
+        return n + 2 if number[0] < 0 and _is_power_of_two(n + 1) else n + 1
+    if not steps:
+        return None
+    return min([(n // step + 1) * step for step in steps])
 
 
 def nth_split(number, place):
@@ -54,7 +56,7 @@ def nth_split(number, place):
     for step in steps:
         period = period * step
     # Behind each period, those that split come again at the same distances.
-    first_ones = [n for n in range(1, period + 1) if any([n % one == 0 for one in steps])]
+    first_ones = sorted({n for step in steps for n in range(step, period + 1, step)})
     rounds, left = divmod(place - 1, len(first_ones))
     return rounds * period + first_ones[left]
 
@@ -63,8 +65,7 @@ def count_always(many, sign):
     """How many of the integers with this sign, up to `many`, are always whole."""
     check_degree(many, 0, MOST_COUNTED)
     _check_sign(sign)
-    primes = [row[0] for row in POWER_RESTS]
-    return many - _count_split(primes, True, many, sign)
+    return many - _count_split(PRIMES, True, many, sign)
 
 
 def least_times(number):

@@ -3,7 +3,8 @@
 from purepowers.checks import check_degree, check_number, is_between, is_sign
 from purepowers.errors import InvalidKind, InvalidLooks, NoNumber
 from purepowers.limits import MOST_LOOKED, MOST_LOOKS
-from purepowers.splitting import odd_part, primes_of, steps_below, steps_of
+from purepowers.numbers import odd_part
+from purepowers.splitting import primes_of, steps_below, steps_of
 
 MOST_PRIME = 997
 

@@ -6,39 +6,22 @@ from purepowers.checks import are_digits, check_degree, check_number, is_number
 from purepowers.errors import InvalidText, TooGreat
 from purepowers.limits import MOST_SIZE
 
-# The prime exponents that integers above 1 and below 2 ** 127 can have; to each one a modulus, and the rests that
-# powers with this exponent leave by it. Most other integers leave other rests, so that no root has to be sought.
+# The product of all primes up to 251.
+SMALL_PRIMES = (
+    2 * 3 * 5 * 7 * 11 * 13 * 17 * 19 * 23 * 29 * 31 * 37 * 41 * 43 * 47 * 53 * 59 * 61 * 67 * 71 * 73 * 79 * 83 * 89
+    * 97 * 101 * 103 * 107 * 109 * 113 * 127 * 131 * 137 * 139 * 149 * 151 * 157 * 163 * 167 * 173 * 179 * 181 * 191
+    * 193 * 197 * 199 * 211 * 223 * 227 * 229 * 233 * 239 * 241 * 251
+)
+# The prime exponents that integers below 2 ** 136 can have if no prime up to 251 divides them; to each one a modulus
+# of such primes alone, and the rests that powers leave by it. Most other integers leave other rests, so that no root
+# has to be sought.
 POWER_RESTS = (
-    (2, 16, (0, 1, 4, 9)),
-    (3, 63, (0, 1, 8, 27, 28, 35, 36, 55, 62)),
-    (5, 11, (0, 1, 10)),
-    (7, 29, (0, 1, 12, 17, 28)),
-    (11, 23, (0, 1, 22)),
-    (13, 53, (0, 1, 23, 30, 52)),
-    (17, 103, (0, 1, 46, 47, 56, 57, 102)),
-    (19, 191, (0, 1, 7, 39, 49, 82, 109, 142, 152, 184, 190)),
-    (23, 47, (0, 1, 46)),
-    (29, 59, (0, 1, 58)),
-    (31, 311, (0, 1, 6, 36, 52, 95, 216, 259, 275, 305, 310)),
-    (37, 149, (0, 1, 44, 105, 148)),
-    (41, 83, (0, 1, 82)),
-    (43, 173, (0, 1, 80, 93, 172)),
-    (47, 283, (0, 1, 44, 45, 238, 239, 282)),
-    (53, 107, (0, 1, 106)),
-    (59, 709, (0, 1, 91, 96, 187, 227, 228, 481, 482, 522, 613, 618, 708)),
-    (61, 367, (0, 1, 83, 84, 283, 284, 366)),
-    (67, 269, (0, 1, 82, 187, 268)),
-    (71, 569, (0, 1, 76, 86, 277, 292, 483, 493, 568)),
-    (73, 293, (0, 1, 138, 155, 292)),
-    (79, 317, (0, 1, 114, 203, 316)),
-    (83, 167, (0, 1, 166)),
-    (89, 179, (0, 1, 178)),
-    (97, 389, (0, 1, 115, 274, 388)),
-    (101, 607, (0, 1, 210, 211, 396, 397, 606)),
-    (103, 619, (0, 1, 252, 253, 366, 367, 618)),
-    (107, 643, (0, 1, 177, 178, 465, 466, 642)),
-    (109, 1091, (0, 1, 79, 93, 290, 305, 786, 801, 998, 1012, 1090)),
-    (113, 227, (0, 1, 226)),
+    (2, 240, (1, 49, 121, 169)),
+    (3, 819, (1, 8, 64, 118, 125, 181, 190, 307, 512, 629, 638, 694, 701, 755, 811, 818)),
+    (5, 341, (1, 32, 56, 67, 87, 98, 243, 254, 274, 285, 309, 340)),
+    (7, 43, (1, 6, 7, 36, 37, 42)),
+    (11, 23, (1, 22)),
+    (13, 53, (1, 23, 30, 52)),
 )
 
 
@@ -79,44 +62,97 @@ def _loosely_read(text):
 def base_of(number):
     """The pair of the base and the exponent of the number."""
     check_number(number)
-    return base_of_sizes(abs(number[0]), number[1])
-
-
-def base_of_sizes(top, bottom):
-    """The base and the exponent of top / bottom, both above 0, below 2 ** 127 and without a common divisor."""
-    if top == bottom:
-        return (1, 1), 0
-    exponent = 1
-    digits = max(top, bottom).bit_length()
-    for prime, modulus, rests in POWER_RESTS:
-        # A power with this exponent, other than 1, has a top or a bottom of more binary digits than that.
-        if prime >= digits:
-            break
-        while top % modulus in rests and bottom % modulus in rests:
-            root = _fraction_root(top, bottom, prime)
-            if root is None:
-                break
-            top, bottom = root
-            exponent = exponent * prime
-    return (top, bottom), exponent
+    return fraction_root_by(abs(number[0]), number[1], 0)
 
 
 def power_root(number, n):
     """The number whose power with the exponent n is this one, the positive one of two, or None."""
     check_number(number)
     check_degree(n)
+    root, exponent = number_root_by(number, n)
+    return root if exponent == n else None
+
+
+def number_root_by(number, n):
+    """The pair (root, divisor) with the greatest divisor of n such that the number is the root's power with it."""
     top, bottom = number
-    if top < 0 and n % 2 == 0:
-        return None
-    if abs(top) == bottom:
-        return number
-    # As in base_of_sizes: this keeps n small where roots are sought.
-    if n >= max(abs(top), bottom).bit_length():
-        return None
-    root = _fraction_root(abs(top), bottom, n)
-    if root is None or top > 0:
-        return root
-    return -root[0], root[1]
+    if top > 0:
+        return fraction_root_by(top, bottom, n)
+    # A number below 0 is no square.
+    (root_top, root_bottom), exponent = fraction_root_by(-top, bottom, odd_part(n))
+    return (-root_top, root_bottom), exponent
+
+
+def fraction_root_by(top, bottom, n):
+    """The same for top / bottom, both above 0 and without a common divisor.
+
+    Each integer divides 0: so with 0 as n these are the base and the exponent; of 1 the base 1 and the exponent n.
+    """
+    if top == bottom:
+        return (1, 1), n
+    top_root, top_exponent = integer_root_by(top, n)
+    if top_exponent == 1:
+        return (top, bottom), 1
+    bottom_root, exponent = integer_root_by(bottom, top_exponent)
+    if exponent == 1:
+        return (top, bottom), 1
+    return (power_of(top_root, top_exponent // exponent), bottom_root), exponent
+
+
+def integer_root_by(value, n):
+    """The same for an integer above 0 and below 2 ** 136."""
+    if value == 1:
+        return 1, n
+    # By divisors in common with small primes: mostly their exponents tell at once that the integer is no power.
+    powers = []
+    rest = value
+    common = gcd(value, SMALL_PRIMES)
+    while common > 1:
+        times, rest = _divided_out(rest, common)
+        n = gcd(n, times)
+        if n == 1:
+            return value, 1
+        powers.append((common, times))
+        common = gcd(rest, common)
+    root, exponent = _rough_root_by(rest, n)
+    if exponent == 1:
+        return value, 1
+    for common, times in powers:
+        root = root * power_of(common, times // exponent)
+    return root, exponent
+
+
+def _divided_out(value, divisor):
+    """How often the integer can be divided by this one, once or more, and what is left then."""
+    square = divisor * divisor
+    if value % square != 0:
+        return 1, value // divisor
+    times, left = _divided_out(value, square)
+    if left % divisor != 0:
+        return 2 * times, left
+    return 2 * times + 1, left // divisor
+
+
+def _rough_root_by(value, n):
+    """As `integer_root_by`, for integers that no small prime divides."""
+    if value == 1:
+        return 1, n
+    exponent = 1
+    for prime, modulus, rests in POWER_RESTS:
+        # A root is above 2 ** 8.
+        if value.bit_length() <= 8 * prime:
+            break
+        while n % prime == 0 and value % modulus in rests:
+            root = exact_root(value, prime)
+            if root is None:
+                break
+            value, n, exponent = root, n // prime, exponent * prime
+    return value, exponent
+
+
+def odd_part(n):
+    """The greatest odd divisor of an integer from 1 on."""
+    return n // (n & -n)
 
 
 def four_root(number):
@@ -166,8 +202,13 @@ def floor_root(value, n):
     """The n-th root of an integer from 0 on, rounded down."""
     if value == 0:
         return 0
+    size = (value.bit_length() + n - 1) // n
+    root = 1 << size
+    if n > 8 and size > 8:
+        # To a great root with a great n the steps are many from afar: the leading half of its digits comes first.
+        half = size // 2
+        root = (floor_root(value >> (n * half), n) + 1) << half
     # By Newton's steps, from above the root: as long as they fall, they do not fall below it.
-    root = 1 << ((value.bit_length() + n - 1) // n)
     while True:
         lower = ((n - 1) * root + value // power_of(root, n - 1)) // n
         if lower >= root:
@@ -182,6 +223,8 @@ def exact_root(value, n):
         if root * root != value:
             return None
         value, n = root, n // 2
+    if n == 1:
+        return value
     root = floor_root(value, n)
     return root if power_of(root, n) == value else None
 

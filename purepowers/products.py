@@ -6,7 +6,7 @@ of them, with any fractions as exponents, is a fraction just if all these expone
 
 from math import gcd, lcm
 
-from purepowers.numbers import base_of_sizes, power_of
+from purepowers.numbers import integer_root_by, power_of
 
 
 def shared_bases(numbers):
@@ -24,7 +24,7 @@ def shared_bases(numbers):
             common = gcd(value, other)
             waiting = waiting + [one for one in (common, value // common, other // common) if one > 1]
     # The base of an integer is one, too.
-    return [base_of_sizes(value, 1)[0][0] for value in found]
+    return [integer_root_by(value, 0)[0] for value in found]
 
 
 def exponents_by(bases, number):

@@ -5,7 +5,7 @@ from math import gcd
 from purepowers.checks import are_digits, check_degree, is_number
 from purepowers.errors import InvalidDegree, InvalidNumber, InvalidText, NotARoot, TooGreat
 from purepowers.limits import MOST_DEGREE, MOST_SIZE
-from purepowers.numbers import base_of_sizes, floor_root, number_text, power_of, read_number
+from purepowers.numbers import floor_root, fraction_root_by, number_text, power_of, read_number
 from purepowers.products import least_form
 
 MOST_POWER = 20
@@ -19,12 +19,9 @@ class Root:
         if not is_number(number) or number[0] < 0:
             raise InvalidNumber(number)
         check_degree(n, 1, MOST_DEGREE)
-        (top, bottom), exponent = base_of_sizes(number[0], number[1])
-        # For 1, with the exponent 0, this is n itself.
-        common = gcd(n, exponent)
-        power = exponent // common
-        self._degree = n // common
-        self._number = power_of(top, power), power_of(bottom, power)
+        root, exponent = fraction_root_by(number[0], number[1], n)
+        self._degree = n // exponent
+        self._number = root
 
     @staticmethod
     def read(text):

@@ -3,7 +3,9 @@
 from math import gcd, isqrt
 
 from purepowers.checks import check_degree, check_number
-from purepowers.numbers import base_of, base_of_sizes, four_root_of_any, multiplied, power_of, power_root
+from purepowers.numbers import (
+    base_of, four_root_of_any, fraction_root_by, multiplied, number_root_by, odd_part, power_of,
+)
 
 MOST_FACTORED = 10 ** 6
 MOST_PARTED = 1000
@@ -16,7 +18,8 @@ def splits(number, n):
     """Whether the equation splits."""
     check_number(number)
     check_degree(n)
-    if common_exponent(number, n) > 1:
+    _, exponent = number_root_by(number, n)
+    if exponent > 1:
         return True
     return n % 4 == 0 and four_root_of_any(number) is not None
 
@@ -25,14 +28,15 @@ def why(number, n):
     """The reason for which the equation splits, or None."""
     check_number(number)
     check_degree(n, 1, MOST_FACTORED)
-    common = common_exponent(number, n)
-    if common > 1:
-        prime = primes_of(common)[0]
-        return "power", prime, power_root(number, prime)
-    root = four_root_of_any(number)
-    if n % 4 == 0 and root is not None:
-        return "four", root
-    return None
+    (top, bottom), exponent = number_root_by(number, n)
+    if exponent > 1:
+        prime = least_prime_of(exponent)
+        power = exponent // prime
+        return "power", prime, (power_of(top, power), power_of(bottom, power))
+    root = four_root_of_any(number) if n % 4 == 0 else None
+    if root is None:
+        return None
+    return "four", root
 
 
 def factor(number, n):
@@ -82,16 +86,18 @@ def steps_of(number):
     """The primes, and perhaps 4, such that the equation splits just for the n that one of them divides.
 
     They are an ascending tuple. For 1 and -1, of which all primes or all odd ones are steps, it is None.
-    This holds also for numbers somewhat beyond 10 ** 30, as told at `base_of_sizes`.
+    This holds also for numbers somewhat beyond 10 ** 30, as told at `integer_root_by`.
     """
     top, bottom = number
-    _, exponent = base_of_sizes(abs(top), bottom)
+    _, exponent = fraction_root_by(abs(top), bottom, 0)
     if exponent == 0:
         return None
     primes = primes_of(exponent)
     if top > 0:
         return tuple(primes)
-    return tuple(steps_below(primes, four_root_of_any(number) is not None))
+    # The opposite of a four is a square.
+    is_four = exponent % 2 == 0 and four_root_of_any(number) is not None
+    return tuple(steps_below(primes, is_four))
 
 
 def odd_ones(primes):
@@ -109,31 +115,24 @@ def steps_below(primes, is_four):
 def primes_of(value):
     """The list of the primes that divide an integer from 1 on, ascending."""
     found = []
-    prime = 2
-    while prime * prime <= value:
-        if value % prime == 0:
-            found.append(prime)
+    while value > 1:
+        prime = least_prime_of(value)
+        found.append(prime)
         while value % prime == 0:
             value = value // prime
-        prime = prime + 1
-    if value > 1:
-        found.append(value)
     return found
 
 
-def odd_part(n):
-    """The greatest odd divisor of an integer from 1 on."""
-    return n // (n & -n)
-
-
-def common_exponent(number, n):
-    """The greatest divisor of n such that the number is a power with this exponent."""
-    top, bottom = number
-    _, exponent = base_of_sizes(abs(top), bottom)
-    if top > 0:
-        return gcd(n, exponent)
-    # A number below 0 is no square.
-    return gcd(odd_part(n), exponent)
+def least_prime_of(value):
+    """The least prime that divides an integer from 2 on."""
+    if value % 2 == 0:
+        return 2
+    divisor = 3
+    while divisor * divisor <= value:
+        if value % divisor == 0:
+            return divisor
+        divisor = divisor + 2
+    return value
 
 
 def _count_by_degree(base, exponent, n):

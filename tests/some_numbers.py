@@ -116,3 +116,38 @@ def tried_reason(number, n):
     if n % 4 == 0 and root is not None:
         return ("four", root)
     return None
+
+
+def whole_root(value, n):
+    """The n-th root of an integer from 1 on, rounded down, by halving."""
+    low, high = 1, 1 << (value.bit_length() // n + 1)
+    while high - low > 1:
+        middle = (low + high) // 2
+        low, high = (middle, high) if middle ** n <= value else (low, middle)
+    return low
+
+
+def tried_base(top, bottom):
+    """The base and the exponent of a fraction above 0, by trying all exponents from the greatest one on."""
+    if top == bottom:
+        return (1, 1), 0
+    for n in range(max(top, bottom).bit_length(), 0, -1):
+        root = (whole_root(top, n), whole_root(bottom, n))
+        if as_power(root, n) == (top, bottom):
+            return root, n
+    raise AssertionError((top, bottom))
+
+
+# Around 251, up to which divisors in common are sought, and products of primes below it and above.
+BASES = (2, 3, 4, 5, 6, 7, 12, 251, 253, 256, 257, 258, 263, 514, 251 * 257, 257 ** 2, 257 * 263, 2 * 257 ** 2, 4 * 263, 65537, 10 ** 6 + 3)
+
+
+def powers_of_all_sizes():
+    """Pairs of an integer and an exponent, with every exponent that there can be, the greatest powers among them."""
+    found = []
+    for n in range(1, 100):
+        greatest = whole_root(SIZE, n)
+        for base in sorted({*BASES, greatest, greatest - 1, greatest // 2, greatest // 3 + 1}):
+            if base > 1 and base ** n <= SIZE:
+                found.append((base, n))
+    return found

@@ -7,7 +7,10 @@ from purepowers.counting import (
 )
 from purepowers.errors import InvalidDegree, InvalidKind, InvalidNumber
 from purepowers.splitting import is_always_whole, splits
-from some_numbers import GREAT, SIZE, as_power, primes_up_to, small_numbers, some_powers, steps_by_primes, tried_reason
+from some_numbers import (
+    GREAT, SIZE, as_power, powers_of_all_sizes, primes_up_to, small_numbers, some_powers, steps_by_primes, tried_base, tried_reason,
+    whole_root,
+)
 from wrong_values import assert_each_argument, no_degrees, no_numbers, no_signs, raised_by, told_as_given
 
 MOST = 10 ** 18
@@ -175,6 +178,31 @@ class GreatBounds(unittest.TestCase):
                     self.assertEqual(count_splits(number, n - 1), place - 1)
                     self.assertEqual(next_split(number, n - 1) if n > 1 else first_split(number), n)
 
+    def test_powers_of_all_sizes(self):
+        primes = primes_up_to(100)
+        for base, n in powers_of_all_sizes()[::2]:
+            for value in (base ** n, base ** n + 1, 2 * base ** n, 4 * base ** n):
+                if value > SIZE:
+                    continue
+                exponent = tried_base(value, 1)[1]
+                steps = [prime for prime in primes if exponent % prime == 0]
+                self.check_steps((value, 1), steps)
+                self.check_steps((1, value), steps)
+                odd = [step for step in steps if step > 2]
+                is_four = value % 4 == 0 and whole_root(value // 4, 4) ** 4 == value // 4
+                self.check_steps((-value, 1), sorted(odd + [4] * is_four))
+                self.check_steps((-1, value), sorted(odd + [4] * (whole_root(4 * value, 4) ** 4 == 4 * value)))
+
+    def check_steps(self, number, steps):
+        """The equation splits just for the n that one of the steps divides."""
+        self.assertEqual(first_split(number), min(steps, default=None))
+        for n in (6, 1001, SIZE):
+            self.assertEqual(count_splits(number, n), counted(steps, n))
+            following = min([(n // step + 1) * step for step in steps], default=None)
+            self.assertEqual(next_split(number, n), following)
+            if steps:
+                self.assertEqual(nth_split(number, counted(steps, following)), following)
+
     def test_always_whole(self):
         for number in WHOLE:
             self.assertIsNone(first_split(number))
@@ -295,14 +323,6 @@ class Integers(unittest.TestCase):
         for value in (count_always(100, -1), count_numbers(12, 100, -1), count_splits((-64, 1), 100), least_times((64, 1)),
                       first_split((64, 1)), next_split((-1, 1), 3), nth_split((-64, 1), 3), count_splits((2, 1), 5)):
             self.assertIs(value.__class__, int)
-
-
-def whole_root(value, n):
-    """The n-th root of an integer, rounded down."""
-    root = round(value ** (1 / n)) + 1
-    while root ** n > value:
-        root -= 1
-    return root
 
 
 class Times(unittest.TestCase):

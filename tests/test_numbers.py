@@ -5,8 +5,10 @@ from math import gcd
 
 from purepowers import numbers
 from purepowers.errors import InvalidDegree, InvalidNumber, InvalidText, TooGreat
-from purepowers.numbers import base_of, base_of_sizes, four_root, multiplied, number_text, power_root, read_number
-from some_numbers import GREAT, SIZE, as_power, exponent_by_primes, is_small, small_numbers, some_powers
+from purepowers.numbers import base_of, four_root, fraction_root_by, multiplied, number_text, power_root, read_number
+from some_numbers import (
+    BASES, GREAT, SIZE, as_power, exponent_by_primes, is_small, powers_of_all_sizes, small_numbers, some_powers, tried_base, whole_root,
+)
 from wrong_values import assert_told, no_degrees, no_integers, no_numbers, raised_by
 
 
@@ -187,9 +189,9 @@ class Bases(unittest.TestCase):
         for base in (2, 3, 5, 6, 10):
             for n in range(2, 127):
                 if base ** n < 2 ** 127:
-                    self.assertEqual(base_of_sizes(base ** n, 1), ((base, 1), n))
-                    self.assertEqual(base_of_sizes(1, base ** n), ((1, base), n))
-                    self.assertEqual(base_of_sizes(base ** n, 7 ** 35)[1], gcd(n, 35))
+                    self.assertEqual(fraction_root_by(base ** n, 1, 0), ((base, 1), n))
+                    self.assertEqual(fraction_root_by(1, base ** n, 0), ((1, base), n))
+                    self.assertEqual(fraction_root_by(base ** n, 7 ** 35, 0)[1], gcd(n, 35))
 
     def test_beside_powers(self):
         # By Mihailescu's theorem, 8 and 9 are the only powers side by side.
@@ -230,6 +232,67 @@ class Bases(unittest.TestCase):
         for number in ((8, 27), (-1, 1), (12, 1), (-SIZE, 1)):
             pair = base_of(number)
             self.assertEqual([one.__class__ for one in (pair, pair[0], *pair[0], pair[1])], [tuple, tuple, int, int, int])
+
+
+class AllExponents(unittest.TestCase):
+    """Bases and exponents against powers tried one by one."""
+
+    def check_base(self, top, bottom):
+        told = tried_base(top, bottom)
+        self.assertEqual(base_of((top, bottom)), told)
+        self.assertEqual(base_of((-top, bottom)), told)
+
+    def test_powers_and_their_neighbours(self):
+        for base, n in powers_of_all_sizes():
+            for value in (base ** n - 1, base ** n, base ** n + 1, 2 * base ** n, 3 * base ** n, base ** n // base * 5, 257 * base ** n):
+                if 1 <= value <= SIZE:
+                    self.check_base(value, 1)
+                    self.check_base(1, value)
+
+    def test_only_the_top_or_the_bottom_is_a_power(self):
+        others = (2, 3, 4, 7 ** 3, 8, 10 ** 30 - 11, 257, 257 ** 2, 263 ** 3, 2 ** 99, 3 ** 60, SIZE, SIZE - 1, 11 ** 28, 6 ** 35, 263 ** 12)
+        for base, n in powers_of_all_sizes()[::3]:
+            for other in others:
+                if gcd(base, other) == 1:
+                    self.check_base(base ** n, other)
+                    self.check_base(other, base ** n)
+
+    def test_powers_of_fractions(self):
+        pairs = [(one, other) for one in BASES for other in BASES if gcd(one, other) == 1]
+        for one, other in pairs:
+            for n in range(2, 60):
+                if max(one, other) ** n <= SIZE:
+                    self.check_base(one ** n, other ** n)
+                    self.check_base(one ** n, other ** (n - 1))
+
+    def test_all_small_integers(self):
+        told = {1: ((1, 1), 0)}
+        for base in range(2, 20001):
+            for n in range(1, 15):
+                if base ** n <= 20000:
+                    told.setdefault(base ** n, ((base, 1), n))
+        for value in range(1, 20001):
+            self.assertEqual(base_of((value, 1)), told[value])
+            self.assertEqual(base_of((-value, 1)), told[value])
+
+    def test_roots_with_all_exponents(self):
+        for base, n in powers_of_all_sizes()[::2]:
+            for many in (*range(1, 14), n, 2 * n, 59, 97, 99, 10 ** 29, SIZE):
+                value = base ** n
+                root = whole_root(value, many) if many < 200 else 1
+                told = (root, 1) if root ** min(many, 200) == value else None
+                self.assertEqual(power_root((value, 1), many), told, (base, n, many))
+                opposite = (-root, 1) if told and many % 2 else None
+                self.assertEqual(power_root((-value, 1), many), opposite, (base, n, many))
+
+    def test_beyond_the_greatest_number(self):
+        # Products of numbers, up to some hundred times the greatest one, are asked for their bases, too.
+        for base in (*BASES, 10 ** 15 + 37, 10 ** 10 + 19, 10 ** 6 + 3):
+            for n in range(1, 109):
+                if base ** n < 2 ** 108:
+                    for value in (base ** n, base ** n + 1, 2 * base ** n):
+                        self.assertEqual(fraction_root_by(value, 1, 0), tried_base(value, 1))
+                        self.assertEqual(fraction_root_by(1, value, 0), tried_base(1, value))
 
 
 class PowerRoots(unittest.TestCase):

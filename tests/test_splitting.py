@@ -8,8 +8,8 @@ from purepowers import splitting
 from purepowers.errors import InvalidDegree, InvalidNumber
 from purepowers.splitting import count_parts, factor, is_always_whole, parts, splits, why
 from some_numbers import (
-    GREAT, PRIMES, SIZE, as_power, exponent_by_primes, is_four_by_primes, primes_in, small_numbers, some_powers,
-    tried_reason,
+    GREAT, PRIMES, SIZE, as_power, exponent_by_primes, is_four_by_primes, is_small, powers_of_all_sizes, primes_in, small_numbers,
+    some_powers, tried_base, tried_reason, whole_root,
 )
 from wrong_values import assert_each_argument, no_degrees, no_numbers, raised_by, told_as_given
 
@@ -141,6 +141,36 @@ class Splits(unittest.TestCase):
                 while common % 2 == 0:
                     common //= 2
                 self.assertIs(splits((-top, bottom), n), common > 1 or (n % 4 == 0 and is_four))
+
+    def test_powers_of_all_sizes_and_their_neighbours(self):
+        for base, exponent in powers_of_all_sizes():
+            for value in (base ** exponent, base ** exponent - 1, base ** exponent + 1, 2 * base ** exponent):
+                if value == 1 or value > SIZE:
+                    continue
+                exponent_told = tried_base(value, 1)[1]
+                is_four = value % 4 == 0 and whole_root(value // 4, 4) ** 4 == value // 4
+                for n in (2, 3, 4, 5, 7, 11, 12, 60, 97, exponent, SIZE):
+                    common = gcd(n, exponent_told)
+                    self.assertIs(splits((value, 1), n), common > 1, (value, n))
+                    self.assertIs(splits((1, value), n), common > 1, (value, n))
+                    below = gcd(n // (n & -n), exponent_told) > 1
+                    self.assertIs(splits((-value, 1), n), below or (n % 4 == 0 and is_four), (value, n))
+                    if n <= 10 ** 6 and common > 1:
+                        prime = primes_in(common)[0]
+                        self.assertEqual(why((value, 1), n), ("power", prime, (whole_root(value, prime), 1)))
+                        self.assertEqual(why((1, value), n), ("power", prime, (1, whole_root(value, prime))))
+
+    def test_fours_of_all_sizes(self):
+        for root in (1, 2, 3, 12, 251, 257, 263, 251 * 257, 257 ** 2, 65537, 10 ** 6 + 3, 10 ** 7, 22360678, 22360679):
+            for number in ((-4 * root ** 4, 1), (-4 * root ** 4, 31622775 ** 4), (-1, 4 * root ** 4)):
+                if gcd(*number) == 1:
+                    exponent = tried_base(-number[0], number[1])[1]
+                    for n in (1, 2, 3, 4, 6, 8, 12, 20, 1000, SIZE):
+                        told = n % 4 == 0 or gcd(n // (n & -n), exponent) > 1
+                        self.assertIs(splits(number, n), told, (number, n))
+                    for other in ((number[0] - 1, number[1]), (number[0] + 1, number[1]), (2 * number[0], number[1]), (number[0], number[1] + 1)):
+                        if other[0] and gcd(*other) == 1 and is_small(other) and tried_base(abs(other[0]), other[1])[1] == 1:
+                            self.assertIs(splits(other, 4), False, other)
 
     def test_one(self):
         for n in (1, 2, 3, 4, 5, 6, 7, 8, 9, 16, 97, 2 ** 40, 2 ** 99, 3 * 2 ** 97, 3 ** 62, SIZE - 1, SIZE):
