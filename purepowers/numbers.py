@@ -108,7 +108,7 @@ def integer_root_by(value, n):
     rest = value
     common = gcd(value, SMALL_PRIMES)
     while common > 1:
-        times, rest = _divided_out(rest, common)
+        times, rest = divided_out(rest, common)
         n = gcd(n, times)
         if n == 1:
             return value, 1
@@ -122,12 +122,12 @@ def integer_root_by(value, n):
     return root, exponent
 
 
-def _divided_out(value, divisor):
+def divided_out(value, divisor):
     """How often the integer can be divided by this one, once or more, and what is left then."""
     square = divisor * divisor
     if value % square != 0:
         return 1, value // divisor
-    times, left = _divided_out(value, square)
+    times, left = divided_out(value, square)
     if left % divisor != 0:
         return 2 * times, left
     return 2 * times + 1, left // divisor

@@ -6,7 +6,25 @@ of them, with any fractions as exponents, is a fraction just if all these expone
 
 from math import gcd, lcm
 
-from purepowers.numbers import integer_root_by, power_of
+from purepowers.numbers import divided_out, integer_root_by, power_of
+
+
+def on_shared_bases(roots):
+    """A degree, shared bases, and to each root the list of its exponents by them, each times the degree.
+
+    The degree is the least integer from 1 on that makes integers of all exponents in such a list.
+    """
+    numbers = [root.number for root in roots]
+    bases = shared_bases(numbers)
+    degree = 1
+    for root in roots:
+        degree = lcm(degree, root.degree)
+    rows = []
+    for root in roots:
+        top, bottom = root.number
+        times = degree // root.degree
+        rows.append([times * (_many_times(top, base) - _many_times(bottom, base)) for base in bases])
+    return degree, bases, rows
 
 
 def shared_bases(numbers):
@@ -19,36 +37,26 @@ def shared_bases(numbers):
         if at is None:
             found.append(value)
         else:
-            # Both are products of these three, which are less together: so this comes to its end.
+            # Both are products of powers of these three, which are less together: so this comes to its end.
             other = found.pop(at)
             common = gcd(value, other)
-            waiting = waiting + [one for one in (common, value // common, other // common) if one > 1]
+            left = [divided_out(value, common)[1], divided_out(other, common)[1]]
+            waiting = waiting + [common] + [one for one in left if one > 1]
     # The base of an integer is one, too.
     return [integer_root_by(value, 0)[0] for value in found]
 
 
-def exponents_by(bases, number):
-    """The list of the exponents of the shared bases whose product this number is."""
-    top, bottom = number
-    return [_many_times(top, base) - _many_times(bottom, base) for base in bases]
-
-
-def common_degree(roots):
-    """The least integer from 1 on that the degree of each root divides."""
-    degree = 1
-    for root in roots:
-        degree = lcm(degree, root.degree)
-    return degree
-
-
 def least_form(roots, powers):
     """The least form of the product of these roots with these powers: its degree, and its number of any size."""
-    degree = common_degree(roots)
-    bases = shared_bases([root.number for root in roots])
+    degree, bases, rows = on_shared_bases(roots)
+    return form_of_product(degree, bases, rows, powers)
+
+
+def form_of_product(degree, bases, rows, powers):
+    """The same by what `on_shared_bases` tells of the roots."""
     sums = [0] * len(bases)
-    for root, power in zip(roots, powers):
-        times = power * (degree // root.degree)
-        sums = [one + times * exponent for one, exponent in zip(sums, exponents_by(bases, root.number))]
+    for row, power in zip(rows, powers):
+        sums = [one + power * exponent for one, exponent in zip(sums, row)]
     # The product is the root with this degree of the product of the bases with these exponents.
     common = degree
     for one in sums:
@@ -66,19 +74,18 @@ def _first_divided(values, value):
 
 def _many_times(value, divisor):
     """How often the integer can be divided by this one."""
-    many = 0
-    while value % divisor == 0:
-        value = value // divisor
-        many = many + 1
-    return many
+    if value % divisor != 0:
+        return 0
+    return divided_out(value, divisor)[0]
 
 
 def _number_by(bases, exponents):
     """The pair of top and bottom of the product of the shared bases with these exponents."""
-    top = bottom = 1
+    top = 1
+    bottom = 1
     for base, exponent in zip(bases, exponents):
         if exponent > 0:
             top = top * power_of(base, exponent)
-        else:
+        elif exponent < 0:
             bottom = bottom * power_of(base, -exponent)
     return top, bottom

@@ -4,23 +4,14 @@ A list of powers, one for each of some roots, is a relation of them if the produ
 a fraction. Sums and multiples of relations are relations, too.
 """
 
-from purepowers.products import common_degree, exponents_by, shared_bases
 
+def rests_of(degree, rows):
+    """The rests of each root, by the common degree and the exponents that `on_shared_bases` tells.
 
-def rests_of(roots):
-    """The common degree of the roots, and the list of the rests of each root.
-
-    The rests of a root are a tuple of integers from 0 to one less than the common degree. Divided by it, they are the
-    exponents of the shared bases whose product the root is, but for integers. So powers are a relation just if the
-    rests, each root's times its power, add up to multiples of the common degree.
+    They are tuples of integers from 0 to one less than the degree: the exponents, each times the degree, but for
+    multiples of it. So powers are a relation just if the rests, each root's times its power, add up to such multiples.
     """
-    degree = common_degree(roots)
-    bases = shared_bases([root.number for root in roots])
-    rests = []
-    for root in roots:
-        times = degree // root.degree
-        rests.append(tuple([times * exponent % degree for exponent in exponents_by(bases, root.number)]))
-    return degree, rests
+    return [tuple([exponent % degree for exponent in row]) for row in rows]
 
 
 def relations_of(degree, rests):
@@ -53,13 +44,15 @@ def _restricted(rows, values, degree):
     for index in range(len(rows) - 1, -1, -1):
         row = rows[index]
         given = sum([power * value for power, value in zip(row, values)]) % degree
-        # As for the greatest common divisor of what both give. In the end the row gives 0.
-        while given > 0:
-            times = least // given
-            lessened = [one - times * other for one, other in zip(kept, row)]
-            least, kept, given, row = given, row, least - times * given, lessened
-        found.append(_with_least_powers(row, index, degree))
-        kept = [power % degree for power in kept]
+        if given > 0:
+            # As for the greatest common divisor of what both give. In the end the row gives 0.
+            while given > 0:
+                times = least // given
+                lessened = [one - times * other for one, other in zip(kept, row)]
+                least, kept, given, row = given, row, least - times * given, lessened
+            row = _with_least_powers(row, index, degree)
+            kept = [power % degree for power in kept]
+        found.append(row)
     return found[::-1]
 
 

@@ -2,7 +2,7 @@
 
 from purepowers.errors import InvalidRoots, TooGreat
 from purepowers.limits import MOST_ROOTS, MOST_SIZE
-from purepowers.products import least_form
+from purepowers.products import form_of_product, on_shared_bases
 from purepowers.relations import order_of, relations_of, rests_of
 from purepowers.roots import Root, check_root
 
@@ -17,18 +17,19 @@ def is_in(root, roots):
     """Whether the root lies in the field of the tower."""
     check_root(root)
     check_roots(roots)
-    return _powers_for(root, roots) is not None
+    degree, _, rows = on_shared_bases((root, *roots))
+    return _powers_for_first(degree, rows) is not None
 
 
 def told_by(root, roots):
     """The fraction and the least exponents by which the root is a product of powers of the roots, or None."""
     check_root(root)
     check_roots(roots)
-    powers = _powers_for(root, roots)
+    degree, bases, rows = on_shared_bases((root, *roots))
+    powers = _powers_for_first(degree, rows)
     if powers is None:
         return None
-    opposites = [-power for power in powers]
-    _, number = least_form((root, *roots), (1, *opposites))
+    _, number = form_of_product(degree, bases, rows, [1] + [-power for power in powers])
     if max(number) > MOST_SIZE:
         raise TooGreat(max(number))
     return number, powers
@@ -37,26 +38,29 @@ def told_by(root, roots):
 def needless(roots):
     """The indexes of the roots that lie in the field of all others."""
     check_roots(roots)
-    degree, rests = rests_of(roots)
+    degree, rests = _rests_by_degree(roots)
     whole = order_of(degree, rests)
-    return tuple([at for at in range(len(rests)) if order_of(degree, rests[:at] + rests[at + 1:]) == whole])
+    indexes = list(range(len(roots)))
+    return tuple([at for at in indexes if _are_enough(roots, indexes[:at] + indexes[at + 1:], degree, rests, whole)])
 
 
 def least_parts(roots):
     """All sets of as few indexes as can be whose roots make the same field."""
     check_roots(roots)
-    degree, rests = rests_of(roots)
+    degree, rests = _rests_by_degree(roots)
     whole = order_of(degree, rests)
-    sets = [indexes for indexes in _sets_of_indexes(len(rests))
-            if order_of(degree, [rests[at] for at in indexes]) == whole]
-    fewest = min([len(indexes) for indexes in sets])
-    return tuple([indexes for indexes in sets if len(indexes) == fewest])
+    found = ()
+    for many in range(len(roots) + 1):
+        if not found:
+            sets = _sets_of_indexes(len(roots), many)
+            found = tuple([indexes for indexes in sets if _are_enough(roots, indexes, degree, rests, whole)])
+    return found
 
 
 def are_independent(roots):
     """Whether no sum of the roots times fractions is 0 unless all these are."""
     check_roots(roots)
-    _, rests = rests_of(roots)
+    _, rests = _rests_by_degree(roots)
     # The quotient of two roots is a fraction just if they have the same rests.
     return len(set(rests)) == len(rests)
 
@@ -65,7 +69,7 @@ def is_same_field(roots, others):
     """Whether the two towers have the same field."""
     check_roots(roots)
     check_roots(others)
-    degree, rests = rests_of(roots + others)
+    degree, rests = _rests_by_degree(roots + others)
     both = order_of(degree, rests)
     return order_of(degree, rests[:len(roots)]) == both and order_of(degree, rests[len(roots):]) == both
 
@@ -81,24 +85,41 @@ def check_roots(roots):
 
 def degree_of_any(roots):
     """The degree of the tower of these roots, also of none."""
-    degree, rests = rests_of(roots)
+    degree, rests = _rests_by_degree(roots)
     return order_of(degree, rests)
 
 
-def _powers_for(root, roots):
-    """The least powers of the roots whose product is a fraction times the root, as a tuple, or None."""
-    degree, rests = rests_of((root, *roots))
-    first, *others = relations_of(degree, rests)
+def _rests_by_degree(roots):
+    """The common degree of the roots, and their rests by it."""
+    degree, _, rows = on_shared_bases(roots)
+    return degree, rests_of(degree, rows)
+
+
+def _powers_for_first(degree, rows):
+    """The least powers of all roots but the first whose product is a fraction times it, as a tuple, or None."""
+    first, *others = relations_of(degree, rests_of(degree, rows))
     if first[0] > 1:
         return None
     powers = [-power for power in first]
-    # By the relations without the root: what they can make less is made as small as can be, from the first one on.
+    # By the relations without the first root: each power is made as small as can be, those ahead of it staying so.
     for index, row in enumerate(others, start=1):
         times = powers[index] // row[index]
         powers = [power - times * other for power, other in zip(powers, row)]
     return tuple(powers[1:])
 
 
-def _sets_of_indexes(many):
-    """All sets of indexes of so many things, as ascending tuples, ascending."""
-    return sorted([tuple([at for at in range(many) if mask >> at & 1 == 1]) for mask in range(1 << many)])
+def _are_enough(roots, indexes, degree, rests, whole):
+    """Whether the roots with these indexes make the field of all, whose degree is `whole`."""
+    most = 1
+    for at in indexes:
+        most = most * roots[at].degree
+    # The degree of a tower is at most the product of the degrees of its roots.
+    return most >= whole and order_of(degree, [rests[at] for at in indexes]) == whole
+
+
+def _sets_of_indexes(count, many):
+    """All sets of so many of the first indexes, as ascending tuples, ascending."""
+    found = [()]
+    for _ in range(many):
+        found = [chosen + (at,) for chosen in found for at in range(count) if not chosen or at > chosen[-1]]
+    return found
