@@ -15,6 +15,10 @@ class Book:
     def __init__(self):
         self.now = Moment(({}, ()))
 
+    def __eq__(self, other):
+        # Also beside a value that by itself would be equal to all others.
+        return self is other
+
     def __setitem__(self, name, number):
         if not _is_name(name):
             raise InvalidName(name)

@@ -4,8 +4,8 @@ from purepowers.checks import has_form, is_between, is_number
 from purepowers.errors import InvalidText
 from purepowers.limits import MOST_DEGREE, MOST_ROOTS, MOST_SIZE
 from purepowers.numbers import base_of, four_root, power_root, read_number
-from purepowers.products import least_form
-from purepowers.roots import Root
+from purepowers.products import least_form, number_by
+from purepowers.roots import root_or_none
 from purepowers.splitting import is_always_whole, splits
 from purepowers.towers import degree_of, is_in
 
@@ -71,7 +71,8 @@ def _shows_degree(claim, certificate):
 
 def _shows_place(claim, certificate):
     """Whether the certificate shows that the root of the claim lies in the field, or that it does not."""
-    root, roots = _root_of(claim[1]), _roots_of(claim[2])
+    root = root_or_none(claim[1])
+    roots = _roots_of(claim[2])
     if root is None or roots is None:
         return False
     if claim[0] == "not in":
@@ -82,7 +83,8 @@ def _shows_place(claim, certificate):
     if not is_number(number) or not _are_exponents(exponents, len(roots)):
         return False
     opposites = [-exponent for exponent in exponents]
-    return least_form((root, *roots), (1, *opposites)) == (1, number)
+    degree, bases, left = least_form((root, *roots), (1, *opposites))
+    return degree == 1 and number_by(bases, left) == number
 
 
 def _are_exponents(values, many):
@@ -105,17 +107,9 @@ def _number_of(text):
         return None
 
 
-def _root_of(text):
-    """The root with this text, or None."""
-    try:
-        return Root.read(text)
-    except InvalidText:
-        return None
-
-
 def _roots_of(texts):
     """The tuple of one to five roots with these texts, or None."""
     if not isinstance(texts, tuple) or not 1 <= len(texts) <= MOST_ROOTS:
         return None
-    roots = tuple([_root_of(text) for text in texts])
+    roots = tuple([root_or_none(text) for text in texts])
     return None if None in roots else roots

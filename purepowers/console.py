@@ -103,6 +103,10 @@ class Console:
         self.desk = Desk()
         self.taken = (2, 1)
 
+    def __eq__(self, other):
+        # Also beside a value that by itself would be equal to all others.
+        return self is other
+
     def say(self, line):
         """The answer to the line."""
         if not isinstance(line, str):

@@ -14,6 +14,10 @@ class Desk:
     def __init__(self):
         self.now = Moment(())
 
+    def __eq__(self, other):
+        # Also beside a value that by itself would be equal to all others.
+        return self is other
+
     def put(self, root):
         """One root more, behind the others."""
         check_root(root)

@@ -1,7 +1,6 @@
 """All errors that the package raises.
 
-The classes with an attribute do not call the `__init__` of their base: the value that was passed
-then stays with Python as the error's message.
+No class calls the `__init__` of its base: so the value that was passed stays with Python as the error's message.
 """
 
 
@@ -9,7 +8,7 @@ class WrongValue(ValueError):
     """The base of the errors about values of a wrong kind or form."""
 
     def __init__(self):
-        ValueError.__init__(self)
+        pass
 
 
 class InvalidText(WrongValue):
@@ -100,7 +99,7 @@ class WrongName(LookupError):
     """The base of the errors about names."""
 
     def __init__(self):
-        LookupError.__init__(self)
+        pass
 
 
 class UnknownName(WrongName):
@@ -114,14 +113,14 @@ class NoAnswer(ArithmeticError):
     """The base of the errors about valid questions without an answer."""
 
     def __init__(self):
-        ArithmeticError.__init__(self)
+        pass
 
 
 class NoNumber(NoAnswer):
     """No number fits."""
 
     def __init__(self):
-        NoAnswer.__init__(self)
+        pass
 
 
 class TooGreat(NoAnswer):
@@ -149,4 +148,4 @@ class NothingToUndo(NoAnswer):
     """There is no change that can be taken back."""
 
     def __init__(self):
-        NoAnswer.__init__(self)
+        pass

@@ -47,21 +47,37 @@ def shared_bases(numbers):
 
 
 def least_form(roots, powers):
-    """The least form of the product of these roots with these powers: its degree, and its number of any size."""
+    """The least form of the product of these roots with these powers: its degree, shared bases, and its number by them.
+
+    The number is the list of the exponents of the bases. It may be far too great to be told in digits.
+    """
     degree, bases, rows = on_shared_bases(roots)
-    return form_of_product(degree, bases, rows, powers)
-
-
-def form_of_product(degree, bases, rows, powers):
-    """The same by what `on_shared_bases` tells of the roots."""
-    sums = [0] * len(bases)
-    for row, power in zip(rows, powers):
-        sums = [one + power * exponent for one, exponent in zip(sums, row)]
+    sums = sum_of_rows(rows, powers)
     # The product is the root with this degree of the product of the bases with these exponents.
     common = degree
     for one in sums:
         common = gcd(common, one)
-    return degree // common, _number_by(bases, [one // common for one in sums])
+    return degree // common, bases, [one // common for one in sums]
+
+
+def sum_of_rows(rows, powers):
+    """The sum of these rows, each times its power."""
+    sums = [0] * len(rows[0])
+    for row, power in zip(rows, powers):
+        sums = [one + power * exponent for one, exponent in zip(sums, row)]
+    return sums
+
+
+def number_by(bases, exponents):
+    """The pair of top and bottom, of any size, of the product of the shared bases with these exponents."""
+    top = 1
+    bottom = 1
+    for base, exponent in zip(bases, exponents):
+        if exponent > 0:
+            top = top * power_of(base, exponent)
+        elif exponent < 0:
+            bottom = bottom * power_of(base, -exponent)
+    return top, bottom
 
 
 def _first_divided(values, value):
@@ -77,15 +93,3 @@ def _many_times(value, divisor):
     if value % divisor != 0:
         return 0
     return divided_out(value, divisor)[0]
-
-
-def _number_by(bases, exponents):
-    """The pair of top and bottom of the product of the shared bases with these exponents."""
-    top = 1
-    bottom = 1
-    for base, exponent in zip(bases, exponents):
-        if exponent > 0:
-            top = top * power_of(base, exponent)
-        elif exponent < 0:
-            bottom = bottom * power_of(base, -exponent)
-    return top, bottom

@@ -6,7 +6,7 @@ from purepowers.checks import are_digits, check_degree, is_number
 from purepowers.errors import InvalidDegree, InvalidNumber, InvalidText, NotARoot, TooGreat
 from purepowers.limits import MOST_DEGREE, MOST_SIZE
 from purepowers.numbers import floor_root, fraction_root_by, number_text, power_of, read_number
-from purepowers.products import least_form
+from purepowers.products import least_form, number_by
 
 MOST_POWER = 20
 MOST_PLACES = 30
@@ -26,9 +26,8 @@ class Root:
     @staticmethod
     def read(text):
         """The root with this text."""
-        root = _loosely_read(text)
-        # Each root has one text alone: another one tells it with needless zeros or in another form than the least.
-        if root is None or str(root) != text:
+        root = root_or_none(text)
+        if root is None:
             raise InvalidText(text)
         return root
 
@@ -50,7 +49,10 @@ class Root:
     def times(self, other):
         """The product."""
         check_root(other)
-        return _root_of_any(least_form((self, other), (1, 1)))
+        degree, bases, exponents = least_form((self, other), (1, 1))
+        if degree > MOST_DEGREE:
+            raise TooGreat(degree)
+        return _root_of_any(number_by(bases, exponents), degree)
 
     def raised(self, many):
         """The power."""
@@ -58,7 +60,7 @@ class Root:
         top, bottom = self._number if many > 0 else self._number[::-1]
         common = gcd(self._degree, many)
         power = abs(many) // common
-        return _root_of_any((self._degree // common, (power_of(top, power), power_of(bottom, power))))
+        return _root_of_any((power_of(top, power), power_of(bottom, power)), self._degree // common)
 
     def is_less(self, other):
         """Whether it is less than the other one."""
@@ -91,17 +93,23 @@ class Root:
         return f"Root of degree {self._degree}"
 
 
+def root_or_none(text):
+    """The root with this text, or None, whatever the text is."""
+    root = _loosely_read(text)
+    # Each root has one text alone: another one tells it with needless zeros or in another form than the least.
+    if root is None or str(root) != text:
+        return None
+    return root
+
+
 def check_root(value):
     """NotARoot if this is no root."""
     if not isinstance(value, Root):
         raise NotARoot(value)
 
 
-def _root_of_any(form):
-    """The root with this least form; TooGreat if it is beyond the limits."""
-    degree, number = form
-    if degree > MOST_DEGREE:
-        raise TooGreat(degree)
+def _root_of_any(number, degree):
+    """The root with this least form; TooGreat if the number is no number, but beyond the greatest one."""
     if max(number) > MOST_SIZE:
         raise TooGreat(max(number))
     return Root(number, degree)

@@ -2,7 +2,7 @@
 
 from purepowers.errors import InvalidRoots, TooGreat
 from purepowers.limits import MOST_ROOTS, MOST_SIZE
-from purepowers.products import form_of_product, on_shared_bases
+from purepowers.products import number_by, on_shared_bases, sum_of_rows
 from purepowers.relations import order_of, relations_of, rests_of
 from purepowers.roots import Root, check_root
 
@@ -29,7 +29,8 @@ def told_by(root, roots):
     powers = _powers_for_first(degree, rows)
     if powers is None:
         return None
-    _, number = form_of_product(degree, bases, rows, [1] + [-power for power in powers])
+    sums = sum_of_rows(rows, [1] + [-power for power in powers])
+    number = number_by(bases, [one // degree for one in sums])
     if max(number) > MOST_SIZE:
         raise TooGreat(max(number))
     return number, powers

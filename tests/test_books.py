@@ -8,7 +8,7 @@ from purepowers.errors import (
 from purepowers.kinds_of import kind_of
 from purepowers.splitting import is_always_whole, splits
 from some_numbers import GREAT, SIZE, small_numbers
-from wrong_values import Stranger, assert_each_argument, assert_told, no_integers, no_numbers, raised_by, told_as_given
+from wrong_values import Stranger, assert_alone, assert_each_argument, assert_told, no_integers, no_numbers, raised_by, told_as_given
 
 NUMBERS = ((64, 1), (-64, 1), (2, 1), (-9, 1), (1, 1), (-1, 1), (8, 27), (-4, 81), (SIZE, 1), (1, SIZE), (SIZE - 1, SIZE), (16, 1), (32, 1))
 
@@ -175,13 +175,9 @@ class Numbers(unittest.TestCase):
         self.assertEqual(seen(book), before)
 
     def test_books_equal_themselves_alone(self):
-        one, other = book_with({"a": (2, 1)}), book_with({"a": (2, 1)})
-        self.assertTrue(one == one and not one != one)
-        self.assertTrue(one != other and not one == other)
-        for value in (None, {"a": (2, 1)}, ("a",), "a"):
-            self.assertFalse(one == value)
-            self.assertTrue(one != value)
-        self.assertTrue(Book() != Book())
+        assert_alone(self, book_with({"a": (2, 1)}), book_with({"a": (2, 1)}))
+        assert_alone(self, Book(), Book())
+        self.assertFalse(book_with({"a": (2, 1)}) == {"a": (2, 1)})
 
     def test_two_books(self):
         one, other = book_with({"a": (4, 1)}), book_with({"a": (8, 1)})
@@ -574,9 +570,8 @@ class Trials(unittest.TestCase):
         book["b"] = (2, 1)
 
     def test_trials_equal_themselves_alone(self):
-        one, other = self.book.trial(), self.book.trial()
-        self.assertTrue(one == one and not one != one and one)
-        self.assertTrue(one != other and not one == other)
+        assert_alone(self, self.book.trial(), self.book.trial())
+        self.assertTrue(self.book.trial())
 
     def test_tried(self):
         marker = object()

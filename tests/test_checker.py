@@ -384,6 +384,14 @@ class Towers(unittest.TestCase):
             self.assertIs(accepts(("not in", text, (TWO,)), ()), False)
         self.assertIs(accepts(("degree", (TWO,) * 5, 2), ()), True)
 
+    def test_products_that_are_far_from_fractions(self):
+        texts = ("59 of 3", "58 of 5", "57 of 7", "55 of 11", "53 of 13")
+        for powers in ((0,) * 5, (1,) * 5, (60,) * 5, (59, 58, 57, 55, 53), (60, 0, 59, 0, 58)):
+            self.assertIs(accepts(("in", "60 of 2", texts), ((1, 1), powers)), False)
+        self.assertIs(accepts(("in", "1 of 1", texts), ((1, 3 * 5 * 7 * 11 * 13), (59, 58, 57, 55, 53))), True)
+        self.assertIs(accepts(("not in", "60 of 2", texts), ()), True)
+        self.assertIs(accepts(("degree", texts, 59 * 58 * 57 * 55 * 53), ()), True)
+
     def test_great_powers(self):
         texts = (f"1 of {SIZE}/{SIZE - 1}",) * 5
         self.assertIs(accepts(("in", "1 of 1", texts), ((1, 1), (60,) * 5)), False)

@@ -11,7 +11,7 @@ from purepowers.roots import Root
 from purepowers.splitting import is_always_whole, parts, splits, why
 from some_numbers import GREAT, SIZE, as_power, small_numbers, some_powers
 from some_roots import no_roots
-from wrong_values import assert_told, no_integers
+from wrong_values import assert_alone, assert_told, no_integers
 
 NUMBERS = ((8, 1), (64, 1), (-64, 1), (-4, 1), (1, 1), (-1, 1), (2, 3), (-27, 8), (-1, 4), (12, 1), (-(2 ** 99), 1))
 FAR = ("0", "-1", "-7", str(-SIZE), str(SIZE + 1), "9" * 30 + "00", "9" * 80, "-" + "9" * 80, "1" + "0" * 300)
@@ -246,10 +246,9 @@ class Several(unittest.TestCase):
         self.assertEqual(seen(other), ["-1/2", "5 of 2", "5", "none", "1"])
 
     def test_consoles_equal_themselves_alone(self):
-        one, other = Console(), Console()
-        self.assertTrue(one == one and not one != one and one)
-        self.assertTrue(one != other and not one == other)
-        self.assertFalse(one == "console" or one == Desk())
+        assert_alone(self, Console(), Console())
+        self.assertFalse(Console() == Desk())
+        self.assertTrue(Console())
 
     def test_the_same_lines_twice(self):
         lines = ("put 2", "take 8", "put 4", "degree", "roots", "parts 6", "turn 0 3", "roots", "undo", "times", "next 3", "drop 0", "roots")

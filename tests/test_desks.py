@@ -7,7 +7,7 @@ from purepowers.roots import Root
 from purepowers.towers import degree_of
 from some_numbers import SIZE
 from some_roots import no_roots, some_towers
-from wrong_values import Stranger, assert_each_argument, assert_told, no_degrees, no_integers, raised_by, told_as_given
+from wrong_values import Stranger, assert_alone, assert_each_argument, assert_told, no_degrees, no_integers, raised_by, told_as_given
 
 TWO, CUBE, THREE = Root((2, 1), 2), Root((2, 1), 3), Root((3, 1), 2)
 
@@ -136,15 +136,11 @@ class Building(unittest.TestCase):
         self.assertEqual((other.roots, other.changes), ((), 0))
 
     def test_desks_equal_themselves_alone(self):
-        one, other = desk_with(TWO), desk_with(TWO)
-        self.assertTrue(one == one)
-        self.assertFalse(one != one)
-        self.assertFalse(one == other)
-        self.assertTrue(one != other)
-        for value in (None, (TWO,), TWO, "desk", 1):
-            self.assertFalse(one == value)
-            self.assertTrue(one != value)
-        self.assertTrue(Desk() and one)
+        assert_alone(self, desk_with(TWO), desk_with(TWO))
+        assert_alone(self, Desk(), Desk())
+        self.assertFalse(desk_with(TWO) == (TWO,))
+        self.assertFalse(desk_with(TWO) == TWO)
+        self.assertTrue(Desk() and desk_with(TWO))
 
 
 class WrongArguments(unittest.TestCase):
@@ -381,13 +377,9 @@ class Trials(unittest.TestCase):
         self.assertEqual(seen(other), [((THREE,), 2, 1), ((), 1, 0)])
 
     def test_trials_equal_themselves_alone(self):
-        one, other = self.desk.trial(), self.desk.trial()
-        self.assertTrue(one == one)
-        self.assertFalse(one != one)
-        self.assertFalse(one == other)
-        self.assertTrue(one != other)
-        self.assertFalse(one == self.desk or one == None)  # noqa: E711
-        self.assertTrue(one)
+        assert_alone(self, self.desk.trial(), self.desk.trial())
+        self.assertFalse(self.desk.trial() == self.desk)
+        self.assertTrue(self.desk.trial())
 
     def test_tried(self):
         marker = object()

@@ -128,7 +128,8 @@ class Words(unittest.TestCase):
         for name, node in nodes(ast.Compare):
             for op, other in zip(node.ops, node.comparators):
                 if isinstance(op, (ast.Is, ast.IsNot)):
-                    self.assertTrue(isinstance(other, ast.Constant) and other.value in (None, True, False), (name, node.lineno))
+                    is_constant = isinstance(other, ast.Constant) and other.value in (None, True, False)
+                    self.assertTrue(is_constant or ast.unparse(node) == "self is other", (name, node.lineno))
 
     def test_strings(self):
         for name, text in sources():
@@ -188,6 +189,11 @@ class Classes(unittest.TestCase):
     def test_decorators(self):
         for name, node in nodes(ast.FunctionDef):
             self.assertTrue({ast.unparse(one) for one in node.decorator_list} <= {"property", "staticmethod"}, (name, node.name))
+
+    def test_nothing_is_read_off_a_class(self):
+        classes = {node.name for _, node in nodes(ast.ClassDef)} | set(dir(builtins))
+        for name, node in nodes(ast.Attribute):
+            self.assertFalse(isinstance(node.value, ast.Name) and node.value.id in classes, (name, node.lineno))
 
     def test_names_of_properties(self):
         properties = self.decorated("property")

@@ -287,7 +287,8 @@ class AllExponents(unittest.TestCase):
 
     def test_beyond_the_greatest_number(self):
         # Products of numbers, up to some hundred times the greatest one, are asked for their bases, too.
-        for base in (*BASES, 10 ** 15 + 37, 10 ** 10 + 19, 10 ** 6 + 3):
+        near = (257, 263, 269, 271, 277, 281, 283, 293, 307, 311, 313)
+        for base in (*BASES, *near, 10 ** 15 + 37, 10 ** 10 + 19):
             for n in range(1, 109):
                 if base ** n < 2 ** 108:
                     for value in (base ** n, base ** n + 1, 2 * base ** n):

@@ -26,6 +26,28 @@ class Stranger:
         return 1
 
 
+class Same:
+    """An object that by itself is equal to everything."""
+
+    __hash__ = object.__hash__
+
+    def __eq__(self, other):
+        return True
+
+    def __ne__(self, other):
+        return False
+
+
+def assert_alone(case, one, other):
+    """Two objects of one class, each of which equals itself alone."""
+    values = [other, Same(), Stranger(), None, True, 1, 0, "", "one", (), [], {}, (one,), [one], object(), one.__class__]
+    case.assertTrue(one == one)
+    case.assertFalse(one != one)
+    for value in values:
+        case.assertFalse(one == value)
+        case.assertTrue(one != value)
+
+
 def nested(depth):
     """A tuple that is nested this deep."""
     value = ()
@@ -38,7 +60,7 @@ def no_integers():
     """Values of all kinds, none of them an integer, a number or a text of a number."""
     return [
         None, True, False, NotImplemented, ..., "", "1", "one", b"", b"1", (), (1,), [], [1], {}, {1: 1}, {1}, set(),
-        frozenset({1}), range(1), object(), Stranger(), int, len, lambda: 1, 1j, ValueError("1"), nested(19),
+        frozenset({1}), range(1), object(), Stranger(), Same(), int, len, lambda: 1, 1j, ValueError("1"), nested(19),
     ]
 
 
