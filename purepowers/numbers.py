@@ -103,10 +103,12 @@ def integer_root_by(value, n):
     """The same for an integer above 0 and below 2 ** 136."""
     if value == 1:
         return 1, n
-    # By divisors in common with small primes: mostly their exponents tell at once that the integer is no power.
+    common = gcd(value, SMALL_PRIMES)
+    # Mostly some small prime divides the integer just once, so that it is no power.
+    if common > 1 and value % (common * common) != 0:
+        return value, 1
     powers = []
     rest = value
-    common = gcd(value, SMALL_PRIMES)
     while common > 1:
         times, rest = divided_out(rest, common)
         n = gcd(n, times)

@@ -92,6 +92,8 @@ def steps_of(number):
     _, exponent = fraction_root_by(abs(top), bottom, 0)
     if exponent == 0:
         return None
+    if exponent == 1:
+        return ()
     primes = primes_of(exponent)
     if top > 0:
         return tuple(primes)
